@@ -1,0 +1,49 @@
+"""The examples of sections 2 to 4 of the document, with just the answers that it shows, and of the README."""
+
+import doctest
+import unittest
+from pathlib import Path
+
+README = Path(__file__).resolve().parent.parent / "README.md"
+
+SECTIONS = r"""
+    >>> from onlyflags.rules import frame, is_rule, letter, stream, tails
+    >>> a = ((0, 1, 1, 0), (((1,), 0),), 2)
+    >>> b = ((1, 0, 1), (((1, 0), 0),), 1)
+    >>> c = ((1, 0, 1, 0), (((1, 0, 1), 1),), 1)
+    >>> [is_rule(a), is_rule(((), (), 1)), letter(a, (1,)), letter(b, (1,)), frame(a, (1,)), frame(b, (0,))]
+    [True, False, (1, 1), (1,), (0, 1, 1, 0, 1, 0, 1, 0), (1, 0, 1, 0, 0)]
+    >>> [stream(a, [()]), stream(b, []), stream(b, [(0,), ()]), tails(a), tails(b)]
+    [(0, 1, 1, 0, 0, 0, 1, 1, 0), (1, 0, 1), (1, 0, 1, 0, 0, 1, 0, 1, 1, 0, 1), [()], [(), (1,)]]
+
+    >>> from onlyflags.receiving import answers, borders, is_stream, loose
+    >>> [answers(a, stream(a, [(1,), ()])), answers(a, (0, 1, 1, 0, 1, 0, 1, 1, 0)), answers(a, (0, 1, 1, 0, 0, 1, 0, 0, 1, 1, 0))]
+    [[(1,), ()], ['short'], ['check']]
+    >>> [borders(a, (0, 1, 1, 0, 1, 1, 0)), answers(a, (0, 1, 1, 0, 1, 1, 0)), loose(a, (1, 0, 1, 1, 0, 1)), loose(a, (1, 1)), is_stream(b, (1, 0, 1)), answers(b, (1, 0, 1, 1, 0, 1, 0, 0, 1, 0, 1))]
+    [[0, 3], ['overlap'], (1, 1), (2, 0), True, [(), (0,)]]
+
+    >>> from onlyflags.clean import breaking, clean_table, is_clean, is_clean_table
+    >>> [is_clean(a), is_clean(b), breaking(b), breaking(c), clean_table(b), is_clean_table(b, [])]
+    [True, True, None, [()], [((), (), 0), ((1,), (1,), 0)], False]
+    >>> [breaking(((1, 1), (((1, 1), 0),), 1)), is_clean(((1, 1), (((1,), 0),), 1))]
+    [[(1,)], True]
+"""
+
+
+class TestExamples(unittest.TestCase):
+    def run_examples(self, text):
+        examples = doctest.DocTestParser().get_doctest(text, {}, "examples", None, 0)
+        told = []
+        result = doctest.DocTestRunner(verbose=False).run(examples, out=told.append)
+        self.assertEqual(result.failed, 0, "".join(told))
+        return result.attempted
+
+    def test_document(self):
+        self.assertEqual(self.run_examples(SECTIONS), 12)
+
+    def test_readme(self):
+        self.assertGreater(self.run_examples(README.read_text()), 12)
+
+
+if __name__ == "__main__":
+    unittest.main()
