@@ -6,8 +6,8 @@ payload that breaks it alone, and stands within a single payload tell it all.
 """
 
 from onlyflags.errors import NotClean
-from onlyflags.rules import check_bits, is_number, is_word, need_rule
-from onlyflags.steps import put_in, put_table, send_on, tail_of_flag
+from onlyflags.rules import is_number, is_word, need_rule
+from onlyflags.steps import behind_flag, check_bits, follow, put_table, send_on
 
 
 def is_clean(rule):
@@ -93,9 +93,9 @@ def _explore(rule):
 def _first_stand(rule, table):
     """Return the stand behind a flag, and whether the step to it breaks."""
     flag = rule[0]
-    part, _ = _follow(flag, (), flag)
-    put, tail = put_in(table, tail_of_flag(table, flag))
-    part, broken = _follow(flag, part, put)
+    part, _ = follow(flag, (), flag)
+    put, tail = behind_flag(table, flag)
+    part, broken = follow(flag, part, put)
     return (tail, part, 0), broken
 
 
@@ -104,7 +104,7 @@ def _next_stand(rule, table, stand, bit):
     flag, _, check = rule
     tail, part, ones = stand
     sent, tail = send_on(table, tail, (bit,))
-    part, broken = _follow(flag, part, sent)
+    part, broken = follow(flag, part, sent)
     return (tail, part, (ones + bit) % check), broken
 
 
@@ -113,18 +113,5 @@ def _stand_breaks(rule, table, stand):
     flag, _, check = rule
     tail, part, ones = stand
     sent, _ = send_on(table, tail, check_bits(check, ones))
-    _, broken = _follow(flag, part, sent + flag[:-1])
+    _, broken = follow(flag, part, sent + flag[:-1])
     return broken
-
-
-def _follow(flag, part, bits):
-    """Return the part behind bits sent on from a part, and whether the flag stood at the end of one."""
-    broken = False
-    for bit in bits:
-        part = part + (bit,)
-        if part == flag:
-            broken = True
-            part = part[1:]
-        while flag[:len(part)] != part:
-            part = part[1:]
-    return part, broken

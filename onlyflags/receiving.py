@@ -1,7 +1,7 @@
 """What a receiver makes of a word that comes over the line."""
 
-from onlyflags.rules import check_bits, is_word, need_bits, need_rule
-from onlyflags.steps import next_tail, put_table, tail_of_flag
+from onlyflags.rules import is_word, need_bits, need_rule
+from onlyflags.steps import check_bits, next_tail, put_table, tail_of_flag
 
 
 def borders(rule, bits):

@@ -1,7 +1,7 @@
 """Rules, and the texts and streams that are sent by them."""
 
-from onlyflags.errors import InvalidBits, InvalidPayloads, InvalidRule
-from onlyflags.steps import put_in, put_table, send_on, tail_of_flag
+from onlyflags.errors import InvalidBits, InvalidLength, InvalidPayloads, InvalidRule
+from onlyflags.steps import behind_flag, check_bits, put_table, send_on
 
 
 def is_number(value):
@@ -63,10 +63,10 @@ def need_payloads(value):
         raise InvalidPayloads()
 
 
-def check_bits(check, ones):
-    """Return the bits that tell a number of ones mod check, the high bit first."""
-    width = (check - 1).bit_length()
-    return tuple([(ones % check) >> place & 1 for place in reversed(range(width))])
+def need_length(value):
+    """Raise InvalidLength for any value that is not an integer from 0 on."""
+    if not is_number(value) or value < 0:
+        raise InvalidLength()
 
 
 def letter(rule, payload):
@@ -81,7 +81,7 @@ def frame(rule, payload):
     bits = letter(rule, payload)
     flag, inserts, _ = rule
     table = put_table(inserts)
-    put, tail = put_in(table, tail_of_flag(table, flag))
+    put, tail = behind_flag(table, flag)
     sent, _ = send_on(table, tail, bits)
     return flag + put + sent
 
@@ -99,7 +99,7 @@ def tails(rule):
     need_rule(rule)
     flag, inserts, _ = rule
     table = put_table(inserts)
-    _, first = put_in(table, tail_of_flag(table, flag))
+    _, first = behind_flag(table, flag)
     found = [first]
     at = 0
     while at < len(found):

@@ -1,5 +1,6 @@
 """A slow second reading of the document, word by word, to hold the program against."""
 
+from fractions import Fraction
 from itertools import product
 
 
@@ -199,6 +200,98 @@ def is_table(rule, stands):
             if (after, part_of(rule, row), (ones + bit) % check) not in stands:
                 return False
     return True
+
+
+def puts_of(rule, payload):
+    """The number of bits that are put in behind the payload's own bits."""
+    return len(sending(rule, payload)) - len(rule[0] + put_behind(rule, rule[0])) - len(payload)
+
+
+def tail_behind(rule, payload):
+    """The tail behind the bits of a payload, with what is put in there."""
+    return tail_of(rule, sending(rule, payload))
+
+
+def tails_of(rule):
+    """The tails behind the flag and behind payloads, each payload being followed while it leads to a new one."""
+    found, queue = {tail_behind(rule, ()): ()}, [()]
+    for payload in queue:
+        for bit in (0, 1):
+            tail = tail_behind(rule, payload + (bit,))
+            if tail not in found:
+                found[tail] = payload + (bit,)
+                queue.append(payload + (bit,))
+    return found
+
+
+def share_of(rule):
+    """The greatest mean of puts over bits of the rounds from a tail to itself, as a Fraction."""
+    leads = tails_of(rule)
+    means = []
+    for tail, lead in leads.items():
+        for turn in words(1, len(leads)):
+            if tail_behind(rule, lead + turn) == tail:
+                means.append(Fraction(puts_of(rule, lead + turn) - puts_of(rule, lead), len(turn)))
+    return max(means)
+
+
+def ring_of(rule):
+    """The least lead, and the least round for it with just the share, by going through all."""
+    leads = tails_of(rule)
+    share = share_of(rule)
+    for lead in words(0, len(leads)):
+        for turn in words(1, len(leads)):
+            gained = puts_of(rule, lead + turn) - puts_of(rule, lead)
+            if gained == share * len(turn) and tail_behind(rule, lead + turn) == tail_behind(rule, lead):
+                return lead, turn
+    return None
+
+
+def numbers_of(rule, fraction, most):
+    """The greatest numbers by tails over all payloads of at most so many bits."""
+    top, bottom = fraction
+    numbers = {}
+    for payload in words(0, most):
+        tail, number = tail_behind(rule, payload), bottom * puts_of(rule, payload) - top * len(payload)
+        numbers[tail] = max(numbers.get(tail, number), number)
+    return sorted(numbers.items())
+
+
+def is_share_list(rule, fraction, entries):
+    """Whether a list of tails with numbers, which all are such, is a share table."""
+    top, bottom = fraction
+    numbers = dict(entries)
+    if len(numbers) != len(entries) or numbers.get(tail_behind(rule, ()), -1) < 0:
+        return False
+    for tail, number in entries:
+        for bit in (0, 1):
+            sent, after = sent_from(rule, tail, (bit,))
+            if after not in numbers or numbers[after] < number - top + bottom * (len(sent) - 1):
+                return False
+    return True
+
+
+def signs_of(payloads):
+    return tuple(sign for payload in payloads for sign in (*payload, END))
+
+
+def lists_by_length(rule, most):
+    """The lists of payloads with streams of at most so many bits, by the lengths, as rows of signs."""
+    found = {length: [] for length in range(most + 1)}
+    rows = [()]
+    while rows:
+        longer = []
+        for row in rows:
+            if not row or row[-1] == END:
+                size = len(stream_of(rule, payloads_of(row)))
+                if size > most:
+                    continue
+                found[size].append(row)
+            elif len(stream_of(rule, payloads_of(row + (END,)))) > most + 2 * width_of(rule[2]):
+                continue
+            longer.extend(row + (sign,) for sign in (ZERO, ONE, END))
+        rows = longer
+    return {length: [payloads_of(row) for row in sorted(rows)] for length, rows in found.items()}
 
 
 def many_bits(count, step):

@@ -1,4 +1,4 @@
-"""The examples of sections 2 to 4 of the document, with just the answers that it shows, and of the README."""
+"""The examples of sections 2 to 8 of the document, with just the answers that it shows, and of the README."""
 
 import doctest
 import unittest
@@ -27,6 +27,28 @@ SECTIONS = r"""
     [True, True, None, [()], [((), (), 0), ((1,), (1,), 0)], False]
     >>> [breaking(((1, 1), (((1, 1), 0),), 1)), is_clean(((1, 1), (((1,), 0),), 1))]
     [[(1,)], True]
+
+    >>> from onlyflags.shares import is_share_table, most_put, ring, share, share_table
+    >>> [share(a), share(b), ring(a), ring(b), most_put(b, 3), share_table(b), share(((1,), (), 1))]
+    [(1, 1), (1, 2), ((), (1,)), ((), (0, 1)), (2, (0, 1, 0)), [((), 1), ((1,), 0)], (0, 1)]
+    >>> [is_share_table(b, (1, 2), [((1,), 0), ((), 1)]), is_share_table(b, (1, 3), [((), 1), ((1,), 0)]), is_share_table(b, (1, 2), [])]
+    [True, False, False]
+
+    >>> from onlyflags.lists import alike, count_lists, list_index, nth_list, parting
+    >>> [alike(b, ((1, 0, 1), (((1, 0), 0), ((1, 0, 0), 1)), 1)), parting(b, ((1, 0, 1), (((1, 0), 1),), 1)), parting(a, b)]
+    [True, [(0,)], []]
+    >>> [count_lists(b, 9), [nth_list(b, 9, index) for index in range(5)], list_index(b, [(), ()]), count_lists(b, 4)]
+    [5, [[(0, 0)], [(0, 1)], [(1, 0)], [(1, 1, 1)], [(), ()]], 4, 0]
+
+    >>> from onlyflags.damage import changed, distance, harm, nearest, silent, spread
+    >>> [changed((0, 1, 1), ("flip", 0)), changed((0, 1), ("add", 2, 1)), spread(a, "flip"), harm(a, [(), (1,)], ("flip", 4)), harm(b, [(1,), ()], ("flip", 5))]
+    [(1, 1, 1), (0, 1, 1), 2, ([0], ['short']), ([0, 1], [(1, 1, 1, 1)])]
+    >>> [silent(a, "flip"), silent(b, "flip"), silent(a, "lose"), silent(a, "add"), distance(a), distance(b), nearest(a), nearest(b)]
+    [None, ([(0, 0)], ('flip', 3)), ([(0,)], ('lose', 3)), ([()], ('add', 3, 0)), 2, 1, ([(0, 0, 0)], [(1,)]), ([(0, 0)], [(0, 1)])]
+
+    >>> from onlyflags.finding import best_rules, clean_words
+    >>> [clean_words((1, 1)), best_rules((1, 1)), clean_words((0, 1)), clean_words((1,))]
+    [[(((1,), 0),)], [((1, 1), (((1,), 0),), 1)], [], []]
 """
 
 
@@ -39,10 +61,10 @@ class TestExamples(unittest.TestCase):
         return result.attempted
 
     def test_document(self):
-        self.assertEqual(self.run_examples(SECTIONS), 12)
+        self.assertEqual(self.run_examples(SECTIONS), 23)
 
     def test_readme(self):
-        self.assertGreater(self.run_examples(README.read_text()), 12)
+        self.assertGreater(self.run_examples(README.read_text()), 30)
 
 
 if __name__ == "__main__":
