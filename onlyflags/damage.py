@@ -239,8 +239,9 @@ def _least_stream(machine, kind, many):
         for pair in words:
             seen[pair] = True
             for bit in (0, 1):
+                word = words[pair] + (bit,)
                 for after in _pairs_behind(machine, kind, pair, bit):
-                    longer[after] = min(longer.get(after, words[pair] + (bit,)), words[pair] + (bit,))
+                    longer[after] = min(longer.get(after, word), word)
         words = {pair: longer[pair] for pair in longer if pair not in seen}
     return None
 

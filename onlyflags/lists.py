@@ -58,7 +58,8 @@ def list_index(rule, payloads):
     counts = _counts(steps, left)
     place = BEHIND_FLAG
     index = 0
-    for sign in [sign for payload in payloads for sign in (*payload, END)]:
+    signs = [one for payload in payloads for one in (*payload, END)]
+    for sign in signs:
         index = index + sum(_counts_by_sign(steps, counts, place, left)[:sign])
         bits, place = steps[place][sign]
         left = left - len(bits)

@@ -102,6 +102,14 @@ class TestAlike(unittest.TestCase):
         one = ((1,), (((1,), 0),), 2)
         other = ((1,), (((0,), 0), ((1, 0), 0)), 2)
         self.assertEqual(parting(one, other), [(0,)])
+        for one, other, told in (
+            (((0, 0), (((1, 0), 1),), 2), ((0, 0), (((1, 0, 1), 1),), 2), [(1, 1)]),
+            (((0, 1), (((1, 1, 0), 0),), 3), ((0, 1), (((0, 1, 1), 0),), 4), [(1, 1)]),
+            (((0,), (((0, 0, 1), 0), ((1, 0), 0)), 4), ((0,), (((0, 0, 1), 0), ((1,), 0), ((1, 1), 0)), 4), [(1, 1)]),
+        ):
+            self.assertEqual(least_parting(one, other, 5), told)
+            self.assertEqual(parting(one, other), told)
+            self.assertEqual(parting(other, one), told)
 
     def test_against_the_plain_reading(self):
         found = {}
