@@ -4,6 +4,7 @@ import unittest
 
 import plain
 import plain_damage
+import test_shares
 from onlyflags.clean import breaking, is_clean
 from onlyflags.damage import changed, harm, silent
 from onlyflags.errors import InvalidBits, InvalidChange, InvalidKind, InvalidPayloads, InvalidRule, NotClean
@@ -29,6 +30,7 @@ GREAT = [
 ]
 
 NO_CLEAN = [C, ((1,), (), 1), ((0, 1), (), 2), ((1, 1), (((1, 1), 0),), 1), ((0, 0, 1), (((0, 0, 1), 0),), 3)]
+NO_CLEAN += [rule for rule in test_shares.GREAT if not is_clean(rule)]
 
 NO_CHANGES = [
     None, 0, 1, True, "", "flip", "flip 0", (), ("flip",), ("lose",), ("add",), ("flip", 0, 0), ("lose", 0, 1),
