@@ -34,13 +34,13 @@ def is_rule(value):
 
 def _are_inserts(value):
     """Return whether any value is a tuple of inserts in their order, each word once."""
-    if not isinstance(value, tuple) or not all([_is_insert(part) for part in value]):
+    if not isinstance(value, tuple) or not all([is_insert(part) for part in value]):
         return False
     words = [word for word, _ in value]
     return all([words[at] < words[at + 1] for at in range(len(words) - 1)])
 
 
-def _is_insert(value):
+def is_insert(value):
     """Return whether any value is a tuple of a word of at least one bit and a bit."""
     return isinstance(value, tuple) and len(value) == 2 and is_full_word(value[0]) and is_bit(value[1])
 

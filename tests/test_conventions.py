@@ -3,11 +3,15 @@
 import copy
 import unittest
 
-from onlyflags import clean, damage, finding, lists, receiving, rules, shares
+from checks import Raises
+from onlyflags import clean, damage, finding, lists, receiving, rules, shares, texts
 from onlyflags.errors import (
-    InvalidBits, InvalidChange, InvalidFlag, InvalidFraction, InvalidIndex, InvalidKind, InvalidLength, InvalidPayloads,
-    InvalidRule, NotClean,
+    InvalidBits, InvalidChange, InvalidCheck, InvalidFlag, InvalidFraction, InvalidIndex, InvalidInsert, InvalidKind,
+    InvalidLength, InvalidNumber, InvalidPayloads, InvalidRule, InvalidText, NotClean,
 )
+from onlyflags.lines import CappedLine, Line, StrictCappedLine, StrictLine
+from onlyflags.live import Receiver, Sender
+from onlyflags.objects import Framing
 from plain import A, B, C
 from test_package import INTERFACE
 
@@ -53,6 +57,13 @@ CALLS = [
     (finding.clean_words, {"flag": (0, 1, 1)}),
     (finding.clean_words, {"flag": (0, 1)}),
     (finding.best_rules, {"flag": (0, 1, 1)}),
+    (texts.show_word, {"bits": (0, 1)}),
+    (texts.parse_word, {"text": "01"}),
+    (texts.show_rule, {"rule": A}),
+    (texts.parse_rule, {"text": "flag 0110; 1 puts 0; check 2"}),
+    (texts.show_payloads, {"payloads": [(1, 0), ()]}),
+    (texts.parse_payloads, {"text": "10 -"}),
+    (texts.parse_payloads, {"text": "none"}),
 ]
 
 # Functions that answer for clean rules only, with the values of their other arguments.
@@ -107,7 +118,7 @@ class TestCalls(unittest.TestCase):
                 one.append("changed")
                 one.reverse()
             self.assertEqual(call(**named), expected)
-        self.assertEqual(many, 2 * 20)
+        self.assertEqual(many, 2 * 22)
 
     def test_the_reason_is_a_new_list_each_time(self):
         for call, more in CLEAN_ONLY:
@@ -174,7 +185,73 @@ class TestCalls(unittest.TestCase):
         self.assertIs(type(finding.best_rules((0, 1))), list)
 
 
-class TestErrorsInOrder(unittest.TestCase):
+class TestObjects(unittest.TestCase):
+    def ways(self):
+        """Each way to a list, as a function that takes it anew."""
+        x, r, s = Line(A), Receiver(A), Sender(A)
+        x.send((1,)), r.take(rules.stream(A, [(1,), ()])), s.send((1,))
+        f = Framing(B)
+        return [
+            lambda: f.received((1, 0, 1, 1, 0, 1)), lambda: f.silent("flip")[0], Framing(C).breaking,
+            lambda: s.payloads, lambda: s.twin().payloads, lambda: r.answers, lambda: r.twin().answers,
+            lambda: r.take(()), lambda: x.payloads, lambda: x.answers, x.tell, StrictLine(A).tell, CappedLine(A).tell,
+            StrictCappedLine(A).tell, lambda: Line(A).send((1,)), lambda: Line.read("flag 1; check 1").payloads,
+        ]
+
+    def test_new_lists_each_time(self):
+        for call in self.ways():
+            first, second = call(), call()
+            self.assertIs(type(first), list)
+            self.assertIsNot(first, second)
+            self.assertEqual(first, second)
+            first.append("changed")
+            first.reverse()
+            self.assertEqual(call(), second)
+
+    def test_lists_of_several_objects(self):
+        s = Sender(A)
+        s.send((1,))
+        t = s.twin()
+        found = [s.payloads, t.payloads, s.payloads, Line(A).payloads, Line(A).answers, Receiver(A).answers]
+        self.assertEqual(len({id(one) for one in found}), len(found))
+
+    def test_a_list_that_is_changed_after_the_call(self):
+        f, payloads = Framing(A), [(1,), ()]
+        bits = f(payloads)
+        payloads.append((0,))
+        self.assertEqual(payloads, [(1,), (), (0,)])
+        self.assertEqual(bits, rules.stream(A, [(1,), ()]))
+
+    def test_by_name(self):
+        self.assertEqual(Framing(rule=A).rule, A)
+        self.assertEqual(Framing(A)(payloads=[()]), rules.stream(A, [()]))
+        self.assertEqual(Framing(B).silent(kind="flip"), damage.silent(B, "flip"))
+        self.assertEqual(Framing(B).received(bits=BITS), receiving.answers(B, BITS))
+        self.assertEqual(Sender(rule=A).send(payload=(1,)), rules.stream(A, [(1,)]))
+        self.assertEqual(Receiver(rule=A).take(bits=rules.stream(A, [(1,)])), [(1,)])
+        for line in (Line, StrictLine, CappedLine, StrictCappedLine):
+            x = line(rule=A)
+            self.assertIsNone(x.spoil(change=("flip", 90)))
+            self.assertEqual(x.send(payload=(1,)), [(1,)])
+            self.assertIs(line.is_valid(value=A), True)
+            self.assertEqual(line.read(text="flag 1; check 1").rule, ((1,), (), 1))
+        for line in (CappedLine, StrictCappedLine):
+            self.assertEqual(line(most=7, rule=A).most, 7)
+
+    def test_kinds_of_answers(self):
+        f, s, r, x = Framing(B), Sender(A), Receiver(A), CappedLine(A, 400)
+        s.send((1,)), r.take(s.bits), x.send((1,)), x.spoil(("flip", 3))
+        for value, kind in (
+            (bool(f), bool), (f == f, bool), ((1,) in f, bool), (f[()], tuple), (f([]), tuple), (len(f), int),
+            (s.bits, tuple), (s.payloads, list), (s == s, bool), (len(s), int), (s.undo(), tuple), (r.bits, tuple),
+            (r.answers, list), (r.loose, tuple), (r == r, bool), (r.undo(), tuple), (x.sent, tuple), (x.came, tuple),
+            (x.waiting, tuple), (x.most, int), (len(x), int), (x.tell(), list), (x.tell()[0], str), (Line.KINDS, int),
+            (Line.is_valid(A), bool), (texts.show_word(()), str), (texts.parse_payloads("none"), list),
+        ):
+            self.assertIs(type(value), kind)
+
+
+class TestErrorsInOrder(Raises):
     NO_RULE = ((0, 1), (), True)
 
     def test_the_rule_comes_first(self):
@@ -209,6 +286,26 @@ class TestErrorsInOrder(unittest.TestCase):
             (NotClean, damage.spread, (C, "flip")), (InvalidRule, damage.distance, (no,)),
             (NotClean, damage.distance, (C,)), (InvalidRule, damage.nearest, (no,)), (NotClean, damage.nearest, (C,)),
             (InvalidFlag, finding.clean_words, ((),)), (InvalidFlag, finding.best_rules, ([1],)),
+            (InvalidBits, texts.show_word, ([0],)), (InvalidRule, texts.show_rule, (no,)),
+            (InvalidPayloads, texts.show_payloads, (((0,),),)), (InvalidText, texts.parse_word, ("",)),
+            (InvalidText, texts.parse_rule, (A,)), (InvalidText, texts.parse_payloads, ([],)),
+        ):
+            self.assert_raises_just(error, call, *values)
+
+    def test_the_errors_of_objects(self):
+        no, f = self.NO_RULE, Framing(C)
+        for error, call, values in (
+            (InvalidRule, Framing, (no,)), (InvalidRule, Sender, (no,)), (InvalidRule, Receiver, (no,)),
+            (InvalidRule, Line, (no,)), (InvalidRule, StrictLine, (no,)), (InvalidRule, CappedLine, (no, True)),
+            (InvalidRule, StrictCappedLine, (no, True)), (InvalidNumber, CappedLine, (A, True)),
+            (InvalidNumber, StrictCappedLine, (A, False)), (InvalidBits, lambda: f[(True,)], ()),
+            (InvalidPayloads, f, ([(True,)],)), (InvalidInsert, lambda: f + ((True,), 1), ()),
+            (InvalidInsert, lambda: f + ((0,), True), ()), (InvalidInsert, lambda: f - (True, False, True), ()),
+            (InvalidCheck, lambda: f * True, ()), (InvalidKind, f.silent, (True,)), (NotClean, f.silent, ("flip",)),
+            (NotClean, f.distance, ()), (InvalidBits, f.received, ((True,),)),
+            (InvalidBits, Sender(A).send, ((True,),)),
+            (InvalidBits, Receiver(A).take, ((False,),)), (InvalidBits, Line(A).send, ((True,),)),
+            (InvalidChange, Line(A).spoil, (("flip", True),)), (InvalidChange, Line(A).spoil, (("add", 0, True),)),
         ):
             self.assert_raises_just(error, call, *values)
 
@@ -231,11 +328,6 @@ class TestErrorsInOrder(unittest.TestCase):
         self.assert_raises_just(InvalidBits, rules.letter, A, (True,))
         self.assert_raises_just(InvalidPayloads, rules.stream, A, [(False,)])
         self.assert_raises_just(InvalidBits, receiving.borders, A, (0, True, 1, 0))
-
-    def assert_raises_just(self, error, call, *values):
-        with self.assertRaises(error) as caught:
-            call(*values)
-        self.assertIs(type(caught.exception), error)
 
 
 if __name__ == "__main__":

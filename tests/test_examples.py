@@ -1,4 +1,4 @@
-"""The examples of sections 2 to 8 of the document, with just the answers that it shows, and of the README."""
+"""The examples of sections 2 to 12 of the document, with just the answers that it shows, and of the README."""
 
 import doctest
 import unittest
@@ -49,6 +49,27 @@ SECTIONS = r"""
     >>> from onlyflags.finding import best_rules, clean_words
     >>> [clean_words((1, 1)), best_rules((1, 1)), clean_words((0, 1)), clean_words((1,))]
     [[(((1,), 0),)], [((1, 1), (((1,), 0),), 1)], [], []]
+
+    >>> from onlyflags.texts import parse_payloads, parse_rule, show_payloads, show_rule, show_word
+    >>> [show_rule(a), show_word(()), show_payloads([(1, 0), ()]), parse_payloads("none"), parse_rule("flag 101; check 1")]
+    ['flag 0110; 1 puts 0; check 2', '-', '10 -', [], ((1, 0, 1), (), 1)]
+
+    >>> from onlyflags.objects import Framing
+    >>> f = Framing(b)
+    >>> [bool(f), len(f), f[(0,)], (1, 0, 1, 1, 0, 1) in f, f == f + ((1, 0, 0), 1), bool(f - (1, 0)), (~f).flag, (f * 2).check, f.share()]
+    [True, 2, (1, 0, 1, 0, 0), True, True, False, (0, 1, 0), 2, (1, 2)]
+
+    >>> from onlyflags.live import Receiver, Sender
+    >>> s, r = Sender(a), Receiver(a)
+    >>> [s.send(()), s.send((1,)), s.bits == stream(a, [(), (1,)]), len(s), s.undo(), s.payloads]
+    [(0, 1, 1, 0, 0, 0, 1, 1, 0), (1, 0, 1, 0, 0, 1, 1, 0), True, 2, (1,), [()]]
+    >>> [r.take((1, 0, 1, 1)), r.take((0, 0, 0, 1, 1, 0)), r.loose, r.take((1,)), r.loose, r.answers, r.undo(), len(r)]
+    [[], [()], (1, 0), [], (1, 1), [()], (1,), 1]
+
+    >>> from onlyflags.lines import Line, StrictCappedLine
+    >>> x = Line(a)
+    >>> [x.send(()), x.spoil(("flip", 0)), x.waiting, x.send((0,)), x.waiting, x.came == x.sent, x.tell()]
+    [[()], None, ('flip', 0), ['check'], None, False, ['flag 0110; 1 puts 0; check 2', 'sent - 0', 'payload -', 'check']]
 """
 
 
@@ -61,10 +82,10 @@ class TestExamples(unittest.TestCase):
         return result.attempted
 
     def test_document(self):
-        self.assertEqual(self.run_examples(SECTIONS), 23)
+        self.assertEqual(self.run_examples(SECTIONS), 35)
 
     def test_readme(self):
-        self.assertGreater(self.run_examples(README.read_text()), 30)
+        self.assertGreater(self.run_examples(README.read_text()), 50)
 
 
 if __name__ == "__main__":

@@ -31,6 +31,32 @@ INTERFACE = {
         "distance": ["rule"], "nearest": ["rule"], "spread": ["rule", "kind"],
     },
     "finding": {"clean_words": ["flag"], "best_rules": ["flag"]},
+    "texts": {
+        "show_word": ["bits"], "parse_word": ["text"], "show_rule": ["rule"], "parse_rule": ["text"],
+        "show_payloads": ["payloads"], "parse_payloads": ["text"],
+    },
+}
+
+# Each class with its bases, its properties, and its methods with the names of their arguments; those of operators are
+# free.
+CLASSES = {
+    ("objects", "Framing"): ((), ["rule", "flag", "inserts", "check"], {
+        "__init__": ["rule"], "__call__": ["payloads"], "__len__": [], "__bool__": [], "__eq__": 1, "__contains__": 1,
+        "__getitem__": 1, "__add__": 1, "__sub__": 1, "__mul__": 1, "__invert__": [], "breaking": [], "share": [],
+        "distance": [], "silent": ["kind"], "received": ["bits"],
+    }),
+    ("live", "Sender"): ((), ["rule", "payloads", "bits"], {
+        "__init__": ["rule"], "__len__": [], "__eq__": 1, "send": ["payload"], "undo": [], "twin": [],
+    }),
+    ("live", "Receiver"): ((), ["rule", "bits", "answers", "loose"], {
+        "__init__": ["rule"], "__len__": [], "__getitem__": 1, "__eq__": 1, "take": ["bits"], "undo": [], "twin": [],
+    }),
+    ("lines", "Line"): ((), ["rule", "payloads", "sent", "came", "answers", "waiting"], {
+        "__init__": ["rule"], "__len__": [], "send": ["payload"], "spoil": ["change"], "undo": [], "tell": [],
+    }),
+    ("lines", "StrictLine"): (("Line",), [], {}),
+    ("lines", "CappedLine"): (("Line",), ["most"], {"__init__": ["rule", "most"]}),
+    ("lines", "StrictCappedLine"): (("CappedLine", "StrictLine"), [], {}),
 }
 
 LIBRARY = {"math": ["gcd"]}
@@ -42,6 +68,12 @@ def sources():
     return sorted(PACKAGE.glob("**/*.py"))
 
 
+def class_body(name, own):
+    """The statement that defines a class in a file of the package."""
+    tree = ast.parse((PACKAGE / (name + ".py")).read_text())
+    return [part for part in tree.body if isinstance(part, ast.ClassDef) and part.name == own][0]
+
+
 class TestInterface(unittest.TestCase):
     def test_functions_are_defined_in_their_files(self):
         for name, functions in INTERFACE.items():
@@ -51,6 +83,32 @@ class TestInterface(unittest.TestCase):
             }
             for function, arguments in functions.items():
                 self.assertEqual(found.get(function), arguments, function)
+
+    def test_classes_are_defined_in_their_files(self):
+        for (name, own), (bases, properties, methods) in CLASSES.items():
+            found = class_body(name, own)
+            self.assertEqual(tuple(base.id for base in found.bases), bases)
+            told = {part.name: part for part in found.body if isinstance(part, ast.FunctionDef)}
+            for one in properties:
+                self.assertEqual([mark.id for mark in told[one].decorator_list], ["property"], one)
+            for one, arguments in methods.items():
+                rest = [arg.arg for arg in told[one].args.args][1:]
+                self.assertEqual(len(rest) if arguments == 1 else rest, arguments, one)
+                self.assertEqual(told[one].decorator_list, [], one)
+
+    def test_static_and_class_methods_of_a_line(self):
+        told = {part.name: part for part in class_body("lines", "Line").body if isinstance(part, ast.FunctionDef)}
+        self.assertEqual([mark.id for mark in told["is_valid"].decorator_list], ["staticmethod"])
+        self.assertEqual([arg.arg for arg in told["is_valid"].args.args], ["value"])
+        self.assertEqual([mark.id for mark in told["read"].decorator_list], ["classmethod"])
+        self.assertEqual([arg.arg for arg in told["read"].args.args][1:], ["text"])
+
+    def test_values_of_classes(self):
+        body = class_body("lines", "Line").body
+        values = {part.targets[0].id: part.value.value for part in body if isinstance(part, ast.Assign)}
+        self.assertEqual(values, {"KINDS": 3})
+        defaults = [part.args.defaults for part in class_body("lines", "CappedLine").body if hasattr(part, "args")]
+        self.assertEqual([one.value for row in defaults for one in row], [40])
 
 
 class TestLanguage(unittest.TestCase):
